@@ -1,0 +1,1 @@
+"""Scripts that may stop and are begun again."""

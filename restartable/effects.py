@@ -1,0 +1,90 @@
+"""Effects: what a script makes of every record."""
+
+from restartable.checks import is_field, is_field_count, is_value
+from restartable.errors import EffectError, FieldsError, MatchError
+from restartable.scripts import after_steps, check_many, check_record, check_script
+
+
+def is_effect(thing):
+    """Whether any value is an effect."""
+    if not isinstance(thing, tuple) or not is_field_count(len(thing)):
+        return False
+    return all([is_part(part, len(thing)) for part in thing])
+
+
+def is_part(thing, fields):
+    """Whether any value is a part of an effect on so many fields."""
+    if not isinstance(thing, tuple) or len(thing) != 2:
+        return False
+    word, number = thing
+    if word == "field":
+        return is_field(number, fields)
+    return word == "value" and is_value(number)
+
+
+def check_effect(effect):
+    """Raise EffectError unless this is an effect."""
+    if not is_effect(effect):
+        raise EffectError("not an effect")
+
+
+def effect(script):
+    """The effect of all steps."""
+    check_script(script)
+    return effect_of_steps(script[0], script[1])
+
+
+def effect_behind(script, many):
+    """The effect of the first many steps."""
+    check_script(script)
+    fields, steps = script
+    check_many(many, len(steps))
+    return effect_of_steps(fields, steps[:many])
+
+
+def effect_of_steps(fields, steps):
+    """The effect of these steps on so many fields."""
+    return after_steps([step_on_parts(step) for step in steps], nothing(fields))
+
+
+def step_on_parts(step):
+    """The step that does with parts what this one does with values."""
+    # Copies and exchanges only move what stands in the fields; a write brings a value of its own.
+    word, one, other = step
+    if word == "write":
+        return (word, ("value", one), other)
+    return step
+
+
+def applied(effect, record):
+    """The record that the effect makes of this one."""
+    check_effect(effect)
+    check_record(record, len(effect))
+    return tuple([record[number] if word == "field" else number for word, number in effect])
+
+
+def both(one, other):
+    """The effect of doing first one and then other."""
+    check_effect(one)
+    check_effect(other)
+    if len(one) != len(other):
+        raise MatchError("the effects do not have as many fields")
+    return tuple([one[part[1]] if part[0] == "field" else part for part in other])
+
+
+def nothing(fields):
+    """The effect that makes of each record itself."""
+    if not is_field_count(fields):
+        raise FieldsError("not a number of fields from 1 to 5")
+    return tuple([("field", field) for field in range(fields)])
+
+
+def matters(script):
+    """The ascending tuple of the fields that are parts of the script's effect."""
+    parts = effect(script)
+    return tuple([field for field in range(len(parts)) if ("field", field) in parts])
+
+
+def is_unchanged(effect, field):
+    """Whether the effect leaves this field as it is."""
+    return effect[field] == ("field", field)
