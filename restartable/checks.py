@@ -12,6 +12,11 @@ def is_number(thing, least, most):
     return least <= thing <= most
 
 
+def are_numbers(thing, least, most):
+    """Whether a value is a tuple of integers from least to most."""
+    return isinstance(thing, tuple) and all([is_number(number, least, most) for number in thing])
+
+
 def is_field_count(thing):
     """Whether a value is a possible number of fields."""
     return is_number(thing, 1, MOST_FIELDS)

@@ -2,7 +2,7 @@
 
 from restartable.checks import is_field, is_field_count, is_value
 from restartable.errors import EffectError, FieldsError, MatchError
-from restartable.scripts import after_steps, check_many, check_record, check_script
+from restartable.scripts import after_step, after_steps, check_many, check_record, check_script
 
 
 def is_effect(thing):
@@ -47,6 +47,14 @@ def effect_of_steps(fields, steps):
     return after_steps([step_on_parts(step) for step in steps], nothing(fields))
 
 
+def effects_along(fields, steps):
+    """The effects of the first many of these steps, for each number many from 0 to all."""
+    rows = [nothing(fields)]
+    for step in steps:
+        rows.append(after_step(step_on_parts(step), rows[-1]))
+    return rows
+
+
 def step_on_parts(step):
     """The step that does with parts what this one does with values."""
     # Copies and exchanges only move what stands in the fields; a write brings a value of its own.
@@ -60,6 +68,11 @@ def applied(effect, record):
     """The record that the effect makes of this one."""
     check_effect(effect)
     check_record(record, len(effect))
+    return made_of(effect, record)
+
+
+def made_of(effect, record):
+    """The record that the effect makes of this one; nothing is checked."""
     return tuple([record[number] if word == "field" else number for word, number in effect])
 
 
@@ -69,7 +82,17 @@ def both(one, other):
     check_effect(other)
     if len(one) != len(other):
         raise MatchError("the effects do not have as many fields")
-    return tuple([one[part[1]] if part[0] == "field" else part for part in other])
+    return joined(one, other)
+
+
+def joined(one, other):
+    """The effect of doing first one and then other; nothing is checked."""
+    return tuple([traced(one, part) for part in other])
+
+
+def traced(effect, part):
+    """The part of the record before the effect that this part of the record behind it is."""
+    return effect[part[1]] if part[0] == "field" else part
 
 
 def nothing(fields):
@@ -88,3 +111,18 @@ def matters(script):
 def is_unchanged(effect, field):
     """Whether the effect leaves this field as it is."""
     return effect[field] == ("field", field)
+
+
+def first_record_apart(one, other):
+    """The first record of which two different effects make different ones."""
+    # Two parts that differ do so on the record of zeros, or on one with a 1 in a field that is one of them.
+    rows = records_of_bits(len(one))
+    return [row for row in rows if made_of(one, row) != made_of(other, row)][0]
+
+
+def records_of_bits(fields):
+    """All records with the values 0 and 1 alone, ascending."""
+    rows = [()]
+    for many in range(fields):
+        rows = [row + (value,) for row in rows for value in (0, 1)]
+    return rows

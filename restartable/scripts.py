@@ -1,6 +1,6 @@
 """Scripts and records, and runs of a script with and without stops."""
 
-from restartable.checks import is_field, is_field_count, is_number, is_value
+from restartable.checks import are_numbers, is_field, is_field_count, is_number, is_value
 from restartable.errors import NumberError, RecordError, ScriptError, StopsError
 
 MOST_STEPS = 12
@@ -43,9 +43,7 @@ def is_record(thing, fields):
 
 def are_stops(thing, most):
     """Whether any value is a tuple of stops, each after at most so many steps."""
-    if not isinstance(thing, tuple) or len(thing) > MOST_STOPS:
-        return False
-    return all([is_number(stop, 0, most) for stop in thing])
+    return are_numbers(thing, 0, most) and len(thing) <= MOST_STOPS
 
 
 def check_script(script):
@@ -58,6 +56,12 @@ def check_record(record, fields):
     """Raise RecordError unless this is a record with so many fields."""
     if not is_record(record, fields):
         raise RecordError("not a record with a value for each field")
+
+
+def check_stops(stops, most):
+    """Raise StopsError unless these are stops, each after at most so many steps."""
+    if not are_stops(stops, most):
+        raise StopsError("not stops that can be made")
 
 
 def check_many(many, most):
@@ -109,9 +113,13 @@ def stopped(script, stops, record):
     """The last record of a run that is stopped after these numbers of steps, and then runs to its end."""
     check_script(script)
     fields, steps = script
-    if not are_stops(stops, len(steps)):
-        raise StopsError("not stops of this script")
+    check_stops(stops, len(steps))
     check_record(record, fields)
+    return after_stops(steps, stops, record)
+
+
+def after_stops(steps, stops, record):
+    """The last record of a run of these steps that is stopped so; nothing is checked."""
     for many in stops:
         record = after_steps(steps[:many], record)
     return after_steps(steps, record)

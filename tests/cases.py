@@ -90,6 +90,19 @@ def reckoned_stopped(steps, stops, record):
     return reckoned(steps, record)
 
 
+def reckoned_applied(parts, record):
+    """The record that an effect makes, reckoned part by part."""
+    made = []
+    for word, number in parts:
+        made.append({"field": lambda i: record[i], "value": lambda v: v}[word](number))
+    return tuple(made)
+
+
+def all_effects(fields, values=range(10)):
+    parts = [("field", field) for field in range(fields)] + [("value", value) for value in values]
+    return list(itertools.product(parts, repeat=fields))
+
+
 def records_that_tell(fields):
     """Records that tell any two effects on these fields apart."""
     return (tuple(range(fields)), tuple(range(5, 5 + fields)), tuple(range(4, 4 - fields, -1)), (9,) * fields)
@@ -148,6 +161,14 @@ def wrong_stops(most):
     return made + list(ODD)
 
 
+def wrong_marks(most):
+    """Values that are no marks of a script with so many steps, at least two."""
+    made = [0, 1, most, [], [1], [1, 2], (0,), (0, 1), (2, 1), (1, 1), (1, 2, 2), (most, most), (most, 1), ((1,),)]
+    made += [(1, most + 1), (-1, 1), (1, 2, 1), tuple(range(most + 1)), tuple(range(1, most + 2)), (1,) * 100, ([1],)]
+    made += [(number,) for number in wrong_numbers(most)] + [(1, number) for number in wrong_numbers(most)]
+    return made + list(ODD)
+
+
 def wrong_parts():
     """Values that are no parts of an effect on two fields."""
     made = [("field", number) for number in (2, -1, 9, 10 ** 12, *ODD_NUMBERS)]
@@ -162,6 +183,19 @@ def wrong_effects():
     made += [(("field", 1),), (("value", 0), ("field", 2)), (("field", 5),) + (("value", 0),) * 4]
     made += [(part, ("field", 1)) for part in wrong_parts()] + [(("field", 0), part) for part in wrong_parts()]
     return made + list(ODD)
+
+
+def otherwise(thing):
+    """The same thing with one part otherwise: another value, left out, twice, or a list for a tuple."""
+    others = [*ODD_NUMBERS, -1, 0, 1, 2, 3, 12, 13, "safe", "stop", "stops", "enough", (0,), (0, 0, 0), (1, 0, 1), [0]]
+    if not isinstance(thing, tuple):
+        return others
+    made = [list(thing), (thing,), *others]
+    for place, part in enumerate(thing):
+        before, behind = thing[:place], thing[place + 1:]
+        made += [before + behind, before + (part, part) + behind]
+        made += [(*before, other, *behind) for other in otherwise(part)]
+    return made + [(*thing, other) for other in others]
 
 
 def told(function, arguments):

@@ -13,21 +13,9 @@ from tests.cases import SESSION, SESSION_EFFECT
 RECORD = (4, 5, 6)
 
 
-def all_effects(fields):
-    parts = [("field", field) for field in range(fields)] + [("value", value) for value in range(10)]
-    return list(itertools.product(parts, repeat=fields))
-
-
-def reckoned_applied(parts, record):
-    made = []
-    for word, number in parts:
-        made.append({"field": lambda i: record[i], "value": lambda v: v}[word](number))
-    return tuple(made)
-
-
 class IsEffectTest(unittest.TestCase):
     def test_effects(self):
-        for parts in [*all_effects(1), *all_effects(2), *cases.drawn_effects(1)]:
+        for parts in [*cases.all_effects(1), *cases.all_effects(2), *cases.drawn_effects(1)]:
             self.assertIs(is_effect(parts), True, parts)
 
     def test_edges(self):
@@ -82,14 +70,14 @@ class EffectTest(unittest.TestCase):
             self.assertIs(is_effect(found), True)
             self.assertEqual(len(found), script[0])
             for record in cases.records_that_tell(script[0]):
-                self.assertEqual(reckoned_applied(found, record), cases.reckoned(script[1], record))
+                self.assertEqual(cases.reckoned_applied(found, record), cases.reckoned(script[1], record))
 
     def test_there_is_just_one(self):
         for script in [script for script in cases.drawn_scripts(12) if script[0] < 3]:
             records = list(itertools.product((0, 1, 8, 9), repeat=script[0]))
             wanted = [cases.reckoned(script[1], record) for record in records]
-            fitting = [parts for parts in all_effects(script[0])
-                       if [reckoned_applied(parts, record) for record in records] == wanted]
+            fitting = [parts for parts in cases.all_effects(script[0])
+                       if [cases.reckoned_applied(parts, record) for record in records] == wanted]
             self.assertEqual(repr([effect(script)]), repr(fitting))
 
     def test_errors(self):
@@ -139,7 +127,7 @@ class AppliedTest(unittest.TestCase):
         rng = random.Random(15)
         for parts in cases.drawn_effects(15):
             record = cases.drawn_record(rng, len(parts))
-            self.assertEqual(repr(applied(parts, record)), repr(reckoned_applied(parts, record)))
+            self.assertEqual(repr(applied(parts, record)), repr(cases.reckoned_applied(parts, record)))
 
     def test_it_agrees_with_run(self):
         rng = random.Random(16)
@@ -174,7 +162,7 @@ class BothTest(unittest.TestCase):
         self.assertEqual(both((("value", 1), ("field", 0)), (("value", 0), ("value", 1))), (("value", 0), ("value", 1)))
 
     def test_all_pairs_on_one_field(self):
-        for one, other in itertools.product(all_effects(1), repeat=2):
+        for one, other in itertools.product(cases.all_effects(1), repeat=2):
             self.assertEqual(both(one, other), one if other == (("field", 0),) else other)
 
     def test_drawn_pairs(self):
@@ -182,7 +170,7 @@ class BothTest(unittest.TestCase):
             found = both(one, other)
             self.assertIs(is_effect(found), True)
             for record in cases.records_that_tell(len(one)):
-                expected = reckoned_applied(other, reckoned_applied(one, record))
+                expected = cases.reckoned_applied(other, cases.reckoned_applied(one, record))
                 self.assertEqual(repr(applied(found, record)), repr(expected))
 
     def test_steps_of_two_scripts(self):

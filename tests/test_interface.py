@@ -24,6 +24,22 @@ FUNCTIONS = {
         "nothing": ["fields"],
         "matters": ["script"],
     },
+    "verdicts": {
+        "verdict": ["script"],
+        "shows_verdict": ["script", "thing"],
+        "results": ["script"],
+        "outcomes": ["script", "record"],
+    },
+    "shortest": {
+        "clash": ["effect"],
+        "shortest": ["effect"],
+    },
+    "marks": {
+        "marked": ["script", "marks", "stops", "record"],
+        "marks_verdict": ["script", "marks"],
+        "shows_marks": ["script", "marks", "thing"],
+        "fewest": ["script"],
+    },
 }
 
 ERRORS = ("RestartError", "ScriptError", "FieldsError", "StepError", "RecordError", "NumberError", "StopsError",
@@ -55,7 +71,7 @@ class InterfaceTest(unittest.TestCase):
         self.assertEqual(sorted(defined("errors", ast.ClassDef)), sorted(ERRORS))
 
     def test_the_package_holds_no_tests(self):
-        self.assertEqual([path.name for path in PACKAGE.rglob("*test*.py")], [])
+        self.assertEqual([path.name for path in PACKAGE.rglob("test*")], [])
         self.assertTrue((PACKAGE / "__init__.py").is_file())
 
 
