@@ -1,8 +1,8 @@
 """Effects: what a script makes of every record."""
 
 from restartable.checks import is_field, is_field_count, is_value
-from restartable.errors import EffectError, FieldsError, MatchError
-from restartable.scripts import after_step, after_steps, check_many, check_record, check_script
+from restartable.errors import EffectError, MatchError
+from restartable.scripts import after_step, after_steps, check_fields, check_many, check_record, check_script
 
 
 def is_effect(thing):
@@ -97,15 +97,18 @@ def traced(effect, part):
 
 def nothing(fields):
     """The effect that makes of each record itself."""
-    if not is_field_count(fields):
-        raise FieldsError("not a number of fields from 1 to 5")
+    check_fields(fields)
     return tuple([("field", field) for field in range(fields)])
 
 
 def matters(script):
     """The ascending tuple of the fields that are parts of the script's effect."""
-    parts = effect(script)
-    return tuple([field for field in range(len(parts)) if ("field", field) in parts])
+    return fields_read(effect(script))
+
+
+def fields_read(effect):
+    """The ascending tuple of the fields that are parts of the effect."""
+    return tuple([field for field in range(len(effect)) if ("field", field) in effect])
 
 
 def is_unchanged(effect, field):

@@ -1,7 +1,7 @@
 """Scripts and records, and runs of a script with and without stops."""
 
 from restartable.checks import are_numbers, is_field, is_field_count, is_number, is_value
-from restartable.errors import NumberError, RecordError, ScriptError, StopsError
+from restartable.errors import FieldsError, NumberError, RecordError, ScriptError, StopsError
 
 MOST_STEPS = 12
 MOST_STOPS = 8
@@ -50,6 +50,12 @@ def check_script(script):
     """Raise ScriptError unless this is a script."""
     if not is_script(script):
         raise ScriptError("not a script")
+
+
+def check_fields(fields):
+    """Raise FieldsError unless this is a possible number of fields."""
+    if not is_field_count(fields):
+        raise FieldsError("not a number of fields from 1 to 5")
 
 
 def check_record(record, fields):

@@ -5,6 +5,8 @@ import itertools
 import random
 
 from restartable.errors import LimitError, NotSafe, ScriptError
+from restartable.objects import Script
+from restartable.runs import Counted, CountedMarked, Marked, Run
 
 SESSION = (3, (("copy", 1, 0), ("write", 0, 1), ("exchange", 1, 2)))
 SESSION_EFFECT = (("field", 1), ("field", 2), ("value", 0))
@@ -18,15 +20,27 @@ def deep(depth, kind):
     return thing
 
 
-# None of these is a script, a record, stops, an effect, a step, a part or an integer.
-ODD = (
+# Objects of the package; no test changes them.
+OBJECT = Script(SESSION[0], *SESSION[1])
+ONE_STEP = Script(1, ("write", 1, 0))
+NO_STEPS = Script(3)
+RUNS = (Run(OBJECT, (4, 5, 6)), Marked(OBJECT, (4, 5, 6), 1, 3), Counted(NO_STEPS, (0, 1, 0)),
+        CountedMarked(ONE_STEP, (1,), 1))
+OBJECTS = (OBJECT, ONE_STEP, NO_STEPS, *RUNS, RUNS[0].trying())
+
+# None of these is a script, a record, stops, an effect, a step, a part, a Script or an integer.
+ODD_BUT_SCRIPTS = (
     None, True, False, "", "copy", "3", "field", "a text\nof two lines", [], [1], {}, {"a": 1}, {0: 4, 1: 5, 2: 6},
     {"field": 0}, [3, []], [[("field", 0)]], ((),), ([],), ({},), (None,), ("",), (True,), (1, True), (None, ()),
     deep(20, list), deep(20, tuple), deep(20, dict), [0] * 7990, tuple(["copy"] * 7990), {k: k for k in range(3900)},
-    ScriptError("no"), NotSafe(1), LimitError(13, 12), (ScriptError("no"),),
+    ScriptError("no"), NotSafe(1), LimitError(13, 12), (ScriptError("no"),), *RUNS, RUNS[0].trying(), (OBJECT,),
+    [OBJECT], {"a": OBJECT}, (RUNS[0],), (3, OBJECT), (OBJECT, ()), (OBJECT, OBJECT), (OBJECT,) * 3, RUNS[:3],
 )
 
-ODD_NUMBERS = (True, False, None, "1", "", (), (1,), [], [1], {}, {1: 1}, LimitError(1, 2), NotSafe(1), deep(20, tuple))
+ODD = (*ODD_BUT_SCRIPTS, OBJECT, ONE_STEP, NO_STEPS)
+
+ODD_NUMBERS = (True, False, None, "1", "", (), (1,), [], [1], {}, {1: 1}, LimitError(1, 2), NotSafe(1), deep(20, tuple),
+               *OBJECTS)
 
 
 def drawn_step(rng, fields):
@@ -117,7 +131,7 @@ def wrong_steps():
               (0, None), ("0", 0), (0, "0"), ([0], 0), (0, [0]), ((0,), 0), (0, (0,)), ({}, 0), (0, {}),
               (10 ** 12, 0))
     words = ("move", "Copy", "copy ", "", "copywrite", "swap", "field", "value", None, True, 0, 1, ["copy"], ("copy",),
-             {"copy": 1}, ScriptError("copy"))
+             {"copy": 1}, ScriptError("copy"), OBJECT, RUNS[0])
     made = [(word, *pair) for word in ("copy", "exchange") for pair in pairs]
     made += [("write", *pair) for pair in writes]
     made += [(word, 0, 1) for word in words]
@@ -173,7 +187,8 @@ def wrong_parts():
     """Values that are no parts of an effect on two fields."""
     made = [("field", number) for number in (2, -1, 9, 10 ** 12, *ODD_NUMBERS)]
     made += [("value", number) for number in (10, -1, 10 ** 12, *ODD_NUMBERS)]
-    made += [(word, 0) for word in ("Field", "values", "", "copy", None, 0, True, ("field",), ["value"], {"field": 0})]
+    made += [(word, 0) for word in ("Field", "values", "", "copy", None, 0, True, ("field",), ["value"], {"field": 0},
+                                    *OBJECTS)]
     made += [["field", 0], ["value", 0], ("field",), ("value",), ("field", 0, 0), ("value", 0, 0), (0, "field")]
     return made + [(), 0, 1, *ODD]
 
@@ -187,7 +202,8 @@ def wrong_effects():
 
 def otherwise(thing):
     """The same thing with one part otherwise: another value, left out, twice, or a list for a tuple."""
-    others = [*ODD_NUMBERS, -1, 0, 1, 2, 3, 12, 13, "safe", "stop", "stops", "enough", (0,), (0, 0, 0), (1, 0, 1), [0]]
+    others = [*ODD_NUMBERS, OBJECT.plain, -1, 0, 1, 2, 3, 12, 13, "safe", "stop", "stops", "enough", (0,), (0, 0, 0),
+              (1, 0, 1), [0]]
     if not isinstance(thing, tuple):
         return others
     made = [list(thing), (thing,), *others]

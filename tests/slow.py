@@ -121,3 +121,20 @@ def distances(fields, values):
                 found[made] = found[rows] + 1
                 queue.append(made)
     return found
+
+
+def is_safe(script, records):
+    """Whether all runs end as one whole run does, found by a search through them."""
+    return set(ends(script, (), records)) == {whole(script, records)}
+
+
+def orders(script):
+    """All orders with the same results that are safe, found by trying each one."""
+    fields, steps = script
+    records = telling_records(fields)
+    expected, found = whole(script, records), []
+    for row in itertools.permutations(range(len(steps))):
+        other = (fields, tuple([steps[number] for number in row]))
+        if whole(other, records) == expected and is_safe(other, records):
+            found.append(row)
+    return found

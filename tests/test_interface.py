@@ -40,6 +40,23 @@ FUNCTIONS = {
         "shows_marks": ["script", "marks", "thing"],
         "fewest": ["script"],
     },
+    "orders": {
+        "orders": ["script"],
+    },
+}
+
+# For each class its file, its bases, how it is made, its properties, and its methods with their arguments.
+CLASSES = {
+    "Script": ("objects", ["object"], "(fields, *steps)", ["fields", "steps", "plain", "effect", "matters", "safe"], {
+        "text": "(self)", "read": "(text)", "of": "(effect)", "__call__": "(self, record)", "__add__": None,
+        "__mul__": None, "__getitem__": None, "__len__": None, "__contains__": None, "__eq__": None, "__repr__": None}),
+    "Run": ("runs", ["object"], "(script, record)", ["script", "record", "place", "ended", "changes"], {
+        "assign_record": "(self, record)", "step": "(self)", "go": "(self, many)", "__call__": "(self, many)",
+        "stop": "(self)", "finish": "(self)", "undo": "(self)", "trying": "(self)", "__len__": None,
+        "__repr__": None}),
+    "Marked": ("runs", ["Run"], "(script, record, *marks)", ["marks", "mark"], {}),
+    "Counted": ("runs", ["Run"], "(script, record)", ["beginnings"], {}),
+    "CountedMarked": ("runs", ["Counted", "Marked"], "(script, record, *marks)", [], {}),
 }
 
 ERRORS = ("RestartError", "ScriptError", "FieldsError", "StepError", "RecordError", "NumberError", "StopsError",
@@ -66,6 +83,33 @@ class InterfaceTest(unittest.TestCase):
                 with self.subTest(f"{file}.{name}"):
                     parameters = inspect.signature(getattr(module, name)).parameters
                     self.assertEqual(list(parameters), arguments)
+
+    def test_classes_are_defined_in_their_files(self):
+        for name, (file, bases, arguments, _, _) in CLASSES.items():
+            with self.subTest(name):
+                self.assertEqual(defined(file, ast.ClassDef).count(name), 1)
+                made = getattr(importlib.import_module(f"restartable.{file}"), name)
+                self.assertEqual([base.__name__ for base in made.__bases__], bases)
+                self.assertEqual(str(inspect.signature(made)), arguments)
+                self.assertIn("__init__", vars(made))
+
+    def test_properties_and_methods_are_defined_in_their_classes(self):
+        for name, (file, _, _, properties, methods) in CLASSES.items():
+            made = getattr(importlib.import_module(f"restartable.{file}"), name)
+            for word in properties:
+                with self.subTest(f"{name}.{word}"):
+                    self.assertIsInstance(vars(made)[word], property)
+                    self.assertEqual(vars(made)[word].fset is not None, word == "record")
+            for word, arguments in methods.items():
+                with self.subTest(f"{name}.{word}"):
+                    self.assertIn(word, vars(made))
+                    if arguments is not None:
+                        self.assertEqual(str(inspect.signature(getattr(made, word))), arguments)
+
+    def test_class_and_static_methods(self):
+        made = vars(importlib.import_module("restartable.objects").Script)
+        self.assertIsInstance(made["read"], classmethod)
+        self.assertIsInstance(made["of"], staticmethod)
 
     def test_errors_are_defined_in_their_file(self):
         self.assertEqual(sorted(defined("errors", ast.ClassDef)), sorted(ERRORS))

@@ -38,7 +38,7 @@ class SessionsTest(unittest.TestCase):
 
     def test_the_readme(self):
         blocks = re.findall(r"^```\n(>>> .*?)^```$", README.read_text(), re.DOTALL | re.MULTILINE)
-        self.assertEqual(len(blocks), 5)
+        self.assertEqual(len(blocks), 8)
         failed, _, told = typed("\n".join(blocks), "README.md")
         self.assertEqual(failed, 0, told)
 
